@@ -1,0 +1,1 @@
+"""Rulescan: words told by many patterns, cut by one table."""
