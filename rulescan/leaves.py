@@ -61,6 +61,10 @@ class Leaves:
             follow |= self.after[leaf]
         return follow & self.having.get(sign, 0)
 
+    def all_signs(self):
+        """The text of all signs of the leaves, each once, in order."""
+        return "".join(sorted(set("".join(self.signs))))
+
     def told(self, here):
         """The number of the first pattern whose texts may end at a set, or None."""
         for number, ends in enumerate(self.ends):
@@ -138,18 +142,18 @@ def _or_shape(leaves, parts):
 def _shapes(leaves, parts):
     """The shapes of parts in their order.
 
-    A part without leaves is not walked again where it comes again: nothing
+    Parts without leaves are not walked again where they come again: nothing
     limits how many of them there are, and shared ones (a row of sixty times
     the same row, and so on, twelve deep) would take for ever.
     """
     shapes = []
-    bare = None
+    bare = []
     for part in parts:
         shape = BARE
-        if part != bare:
+        if part not in bare:
             before = len(leaves.signs)
             shape = _shape(leaves, part)
             if len(leaves.signs) == before:
-                bare = part
+                bare.append(part)
         shapes.append(shape)
     return shapes

@@ -6,7 +6,7 @@ from rulescan.leaves import BEGINNING, leaves_of
 def signs_of(patterns):
     """The text of all signs of the leaves, each once, in order."""
     leaves = leaves_of(patterns)
-    return "".join(sorted(set("".join(leaves.signs))))
+    return leaves.all_signs()
 
 
 def tells(pattern, text):

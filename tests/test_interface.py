@@ -6,12 +6,16 @@ import pathlib
 import unittest
 
 import rulescan
-from rulescan import errors, patterns, trying
+from rulescan import cutting, errors, leasts, patterns, showing, tables, trying
 
 FOLDER = pathlib.Path(rulescan.__file__).parent
 FUNCTIONS = {
     patterns: {"signs_of": ["patterns"], "tells": ["pattern", "text"], "told_of": ["patterns", "text"]},
     trying: {"tried": ["patterns", "text"]},
+    tables: {"table": ["patterns"]},
+    leasts: {"least": ["made"]},
+    cutting: {"walk": ["made", "text"], "word": ["made", "text", "at"], "cut": ["made", "text"]},
+    showing: {"reach": ["made", "row"], "apart": ["made", "one", "other"]},
 }
 ALLOWED_LIBRARY = {"heapq", "math", "itertools", "collections"}
 
@@ -43,6 +47,14 @@ class Interface(unittest.TestCase):
         self.assertIs(patterns.tells(pattern=leaf, text="a"), True)
         self.assertEqual(patterns.told_of(patterns=[leaf], text="a"), 0)
         self.assertEqual(trying.tried(patterns=[leaf], text="a"), [(0, 0, 1)])
+        made = ("a", [(None, [1]), (0, [None])])
+        self.assertEqual(tables.table(patterns=[leaf]), made)
+        self.assertEqual(leasts.least(made=made), made)
+        self.assertEqual(cutting.walk(made=made, text="a"), 1)
+        self.assertEqual(cutting.word(made=made, text="a", at=0), (0, 1))
+        self.assertEqual(cutting.cut(made=made, text="a"), [(0, 0, 1)])
+        self.assertEqual(showing.reach(made=made, row=1), "a")
+        self.assertEqual(showing.apart(made=made, one=0, other=1), "")
 
 
 class Sources(unittest.TestCase):

@@ -123,6 +123,16 @@ class SharedParts(unittest.TestCase):
             self.assertEqual(signs_of([pattern, one("a")]), "a")
             self.assertEqual(tried([pattern, one("a")], "ab"), [(1, 0, 1), (None, 1, 2)])
 
+    def test_two_unlike_parts_without_leaves_in_turn_at_each_depth(self):
+        pattern, other = EMPTY, row(EMPTY)
+        for _ in range(9):
+            pattern, other = ("row", [pattern, other] * 30), ("or", [other, pattern] * 30)
+        with soon():
+            self.assertIs(tells(row(pattern, other), ""), True)
+            self.assertIs(tells(row(other, one("a"), pattern), "a"), True)
+            self.assertEqual(signs_of([pattern, other, one("a")]), "a")
+            self.assertEqual(tried([other, one("a")], "ab"), [(1, 0, 1), (None, 1, 2)])
+
     def test_leaves_sixty_times_at_each_depth(self):
         pattern = one("a")
         for _ in range(11):

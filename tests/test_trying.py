@@ -3,7 +3,7 @@
 import unittest
 
 from rulescan.trying import tried
-from tests.helping import EMPTY, either, many, maybe, one, row, spelt
+from tests.helping import EMPTY, check_pieces, either, many, maybe, one, row, spelt
 
 NAME = row(one("abcdefghijklmnopqrstuvwxyz"), many(one("abcdefghijklmnopqrstuvwxyz")))
 NUMBER = row(one("0123456789"), many(one("0123456789")))
@@ -70,16 +70,7 @@ class TheEmptyText(unittest.TestCase):
 class TheList(unittest.TestCase):
     def test_it_is_a_list_of_tuples_side_by_side(self):
         text = "if x1 := 22!\n\tend~"
-        pieces = tried([spelt("if"), NAME, NUMBER, BLANKS], text)
-        self.assertIs(type(pieces), list)
-        at = 0
-        for piece in pieces:
-            self.assertIs(type(piece), tuple)
-            self.assertEqual(len(piece), 3)
-            self.assertEqual(piece[1], at)
-            self.assertGreater(piece[2], at)
-            at = piece[2]
-        self.assertEqual(at, len(text))
+        check_pieces(self, tried([spelt("if"), NAME, NUMBER, BLANKS], text), text)
 
     def test_it_is_new_each_time(self):
         words = [one("a")]
